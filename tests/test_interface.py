@@ -1,0 +1,124 @@
+"""The interface: names, parameters, and in which file and class each thing is defined."""
+
+import ast
+import importlib
+import inspect
+import pathlib
+
+from helpers import Case
+
+FOLDER = pathlib.Path(__file__).resolve().parent.parent / 'whichfirst'
+
+FUNCTIONS = {
+    'kinds': {
+        name: 'thing' for name in (
+            'is_integer', 'is_number', 'is_name', 'is_counts', 'is_use', 'is_slack', 'is_limit', 'is_machines', 'is_stays',
+            'is_task',
+        )
+    },
+    'limitparts': {
+        'is_passed': 'limit, counts', 'is_reached': 'limit, slack, counts', 'widened': 'limit, slack', 'names_in': 'limit',
+        'parts_of': 'limit', 'part_at': 'limit, path', 'with_part': 'limit, path, other', 'without_part': 'limit, path',
+    },
+    'allruns': {
+        'never_later': 'limit, other, caps', 'are_alike': 'limit, other, caps', 'parting_counts': 'limit, other, caps',
+        'idle_parts': 'limit, caps', 'lean_limit': 'limit, caps',
+    },
+    'boundchecker': {'lets_bounds': 'site, thing', 'lets_run': 'site, bounds, thing'},
+}
+
+# The parameters of a class, and its methods and properties; those of an operator have free names.
+CLASSES = {
+    'limitclasses': {
+        'Limit': ('limit, *, caps=None', {
+            'form': None, 'caps': None, 'hours': 'n', 'cycles': 'n', 'days': 'n', 'lean': 'self', '__call__': 'self, counts',
+            '__le__': '', '__ge__': '', '__eq__': '', '__and__': '', '__or__': '', '__iand__': '', '__ior__': '', '__add__': '',
+            '__iter__': '', '__len__': '', '__contains__': '',
+        }),
+    },
+}
+
+
+def words_of(thing):
+    return str(inspect.signature(thing))[1:-1]
+
+
+class TestInterface(Case):
+    def test_functions(self):
+        for module, functions in FUNCTIONS.items():
+            for name, words in functions.items():
+                thing = getattr(importlib.import_module('whichfirst.' + module), name)
+                self.assertEqual(words_of(thing), words, name)
+                self.assertEqual(thing.__module__, 'whichfirst.' + module)
+
+    def test_classes(self):
+        for module, classes in CLASSES.items():
+            for name, (words, members) in classes.items():
+                thing = getattr(importlib.import_module('whichfirst.' + module), name)
+                self.assertEqual(words_of(thing), words, name)
+                self.assertEqual(thing.__module__, 'whichfirst.' + module)
+                for member, told in members.items():
+                    self.assertIn(member, vars(thing))
+                    if told is None:
+                        self.assertIsInstance(vars(thing)[member], property)
+                    elif told:
+                        self.assertEqual(words_of(getattr(thing, member)), told, member)
+
+
+class TestFiles(Case):
+    """The rules of the language that can be counted."""
+
+    def test_the_folder_holds_modules_only(self):
+        names = sorted(path.name for path in FOLDER.iterdir() if path.name != '__pycache__')
+        self.assertIn('__init__.py', names)
+        self.assertTrue(all(name.endswith('.py') for name in names))
+        self.assertLessEqual(len(names), 100)
+
+    def test_characters_and_sizes(self):
+        for path in FOLDER.glob('*.py'):
+            text = path.read_text(encoding='utf-8')
+            lines = text.split('\n')
+            self.assertTrue(all(char == '\n' or ' ' <= char <= '~' for char in text), path)
+            self.assertLessEqual(len(lines), 399, path)
+            self.assertLessEqual(max(len(line) for line in lines), 120, path)
+            for node in ast.walk(ast.parse(text)):
+                if isinstance(node, ast.FunctionDef):
+                    self.assertLessEqual(node.end_lineno - node.lineno + 1, 40, (path, node.name))
+
+    def test_imports(self):
+        """Each name is imported from the file that defines it, and no file imports itself by others."""
+        imports = {}
+        for path in FOLDER.glob('*.py'):
+            imports[path.stem] = found = set()
+            for node in ast.walk(ast.parse(path.read_text(encoding='utf-8'))):
+                self.assertNotIsInstance(node, ast.Import, path)
+                if isinstance(node, ast.ImportFrom) and node.module.startswith('whichfirst.'):
+                    source = node.module.split('.')[1]
+                    found.add(source)
+                    self.assertTrue({name.name for name in node.names} <= bound_in(source), (path, node.module))
+        for name in imports:
+            behind, new = set(), [name]
+            while new:
+                for other in imports[new.pop()] - behind:
+                    behind.add(other)
+                    new.append(other)
+            self.assertNotIn(name, behind)
+
+    def test_every_import_is_used(self):
+        for path in FOLDER.glob('*.py'):
+            tree = ast.parse(path.read_text(encoding='utf-8'))
+            used = {node.id for node in ast.walk(tree) if isinstance(node, ast.Name)}
+            for node in ast.walk(tree):
+                if isinstance(node, ast.ImportFrom):
+                    self.assertTrue({name.name for name in node.names} <= used, path)
+
+
+def bound_in(module):
+    """The names that a module defines itself."""
+    found = set()
+    for node in ast.parse((FOLDER / (module + '.py')).read_text(encoding='utf-8')).body:
+        if isinstance(node, (ast.FunctionDef, ast.ClassDef)):
+            found.add(node.name)
+        elif isinstance(node, ast.Assign):
+            found |= {target.id for target in node.targets}
+    return found

@@ -1,0 +1,1 @@
+"""Whichfirst: upkeep that falls due by hours, cycles or days, and the fewest visits."""
