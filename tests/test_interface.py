@@ -25,7 +25,23 @@ FUNCTIONS = {
         'idle_parts': 'limit, caps', 'lean_limit': 'limit, caps',
     },
     'boundchecker': {'lets_bounds': 'site, thing', 'lets_run': 'site, bounds, thing'},
+    'sitechecker': {'lets_limit': 'thing', 'lets_site': 'thing'},
+    'siteparts': {
+        'place_of': 'site, part, day', 'use_of': 'site, machine, day', 'parts_at': 'site, place, day', 'tasks_of': 'site, part',
+        'part_of': 'site, name', 'number_of': 'site, name',
+    },
+    'counting': {'counts_between': 'site, part, first, last', 'passing_day': 'site, part, limit, base'},
+    'duedays': {
+        'due_day': 'site, name, base', 'late_day': 'site, name, base', 'early_day': 'site, name, base',
+        'window_of': 'site, name, base', 'windows_of': 'site, name, upto',
+    },
+    'goingby': {
+        'first_bases': 'site', 'done_on': 'site, bases, day', 'bases_after': 'site, bases, days', 'missed_by': 'site, days, upto',
+        'are_kept': 'site, days, upto', 'story_of': 'site, days',
+    },
 }
+
+GENERATORS = ('windows_of',)
 
 # The parameters of a class, and its methods and properties; those of an operator have free names.
 CLASSES = {
@@ -34,6 +50,12 @@ CLASSES = {
             'form': None, 'caps': None, 'hours': 'n', 'cycles': 'n', 'days': 'n', 'lean': 'self', '__call__': 'self, counts',
             '__le__': '', '__ge__': '', '__eq__': '', '__and__': '', '__or__': '', '__iand__': '', '__ior__': '', '__add__': '',
             '__iter__': '', '__len__': '', '__contains__': '',
+        }),
+    },
+    'dues': {
+        'Due': ('site, name, base', {
+            'name': None, 'base': None, 'early_on': None, 'due_on': None, 'late_on': None, '__call__': 'self, day',
+            'nearest': 'site, bases', 'word_for': 'left', '__lt__': '', '__le__': '', '__eq__': '',
         }),
     },
 }
@@ -50,6 +72,7 @@ class TestInterface(Case):
                 thing = getattr(importlib.import_module('whichfirst.' + module), name)
                 self.assertEqual(words_of(thing), words, name)
                 self.assertEqual(thing.__module__, 'whichfirst.' + module)
+                self.assertEqual(inspect.isgeneratorfunction(thing), name in GENERATORS)
 
     def test_classes(self):
         for module, classes in CLASSES.items():

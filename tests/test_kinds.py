@@ -64,7 +64,8 @@ BAD = {
         ('later', ('days',)), ('first', None), ('first', 1), ('later', 'days'), ('first', (['days', 1],)),
         ('first', (('days', 1), ('later', ()))), ('later', (('days', 1), ('first', (('hours', True),)))),
         ('first', (('days', 0), ('days', 1))), ('first', (('days', 1), None)), 'days', 'ab', 7, None, (), [], listed(nested(2)),
-        ('first',), ('first', (('days', 1),), ()),
+        ('first',), ('first', (('days', 1),), ()), ('weeks', (('days', 1),)), (None, (('days', 1),)), ('', (('days', 1),)),
+        ('First', (('days', 1),)), (['first'], (('days', 1),)), ('hours', (('days', 1),)), ('first', (('both', (('days', 1),)),)),
     ),
     'is_machines': (
         [], None, 'a', 0, (('a', ()),), (('a', [(0, 0)]),), (['a', ((0, 0),)],), [('a', ((0, 0),))], (('A', ((0, 0),)),),
