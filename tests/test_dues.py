@@ -135,6 +135,13 @@ class TestCompared(Case):
             self.same((due == other, other == due, due != other), (False, False, True))
 
 
+    def test_in_no_order_with_other_values(self):
+        due = Due(SITE, 'oil', 5)
+        for other in (11, None, 'oil', (False, 11, 'oil', 5)):
+            self.assertRaises(TypeError, lambda: due < other)
+            self.assertRaises(TypeError, lambda: due <= other)
+
+
 class TestNearest(Case):
     def test_ordinary(self):
         self.same(Due.nearest(SITE, (6, 5)).name, 'oil')

@@ -6,6 +6,7 @@ import inspect
 import pathlib
 
 from helpers import Case
+from sites import OIL, SITE
 
 FOLDER = pathlib.Path(__file__).resolve().parent.parent / 'whichfirst'
 
@@ -43,6 +44,26 @@ FUNCTIONS = {
 
 GENERATORS = ('windows_of',)
 
+LIMIT = OIL[3]
+RUN = tuple((name, uses[:1]) for name, uses in SITE[0])
+
+# Arguments of each function, in order; lists where any value may stand.
+SAMPLES = {
+    'is_integer': (5,), 'is_number': ([5],), 'is_name': ('oil',), 'is_counts': ([0, 0, 0],), 'is_use': ((8, 2),),
+    'is_slack': ((0, 0, 0),), 'is_limit': (('first', [['days', 1]]),), 'is_machines': (SITE[0],), 'is_stays': (((0, None),),),
+    'is_task': (OIL,), 'is_passed': (LIMIT, (41, 0, 0)), 'is_reached': (LIMIT, (8, 0, 1), (32, 0, 0)),
+    'widened': (LIMIT, (8, 0, 1)), 'names_in': (LIMIT,), 'parts_of': (LIMIT,), 'part_at': (LIMIT, (1,)),
+    'with_part': (LIMIT, (1,), ('days', 9)), 'without_part': (LIMIT, (1,)), 'never_later': (LIMIT, ('days', 7), (8, 2)),
+    'are_alike': (LIMIT, ('days', 7), None), 'parting_counts': (('days', 7), LIMIT, (8, 2)), 'idle_parts': (LIMIT, (5, 2)),
+    'lean_limit': (LIMIT, (5, 2)), 'lets_bounds': (SITE, (RUN, RUN)), 'lets_run': (SITE, (RUN, RUN), RUN),
+    'lets_limit': (LIMIT,), 'lets_site': (SITE,), 'place_of': (SITE, 'saw', 3), 'use_of': (SITE, 'mill', 0),
+    'parts_at': (SITE, 'lift', 4), 'tasks_of': (SITE, 'saw'), 'part_of': (SITE, 'oil'), 'number_of': (SITE, 'oil'),
+    'counts_between': (SITE, 'saw', 2, 7), 'passing_day': (SITE, 'saw', LIMIT, 1), 'due_day': (SITE, 'oil', 1),
+    'late_day': (SITE, 'oil', 2), 'early_day': (SITE, 'oil', 3), 'window_of': (SITE, 'oil', 4), 'windows_of': (SITE, 'oil', 14),
+    'first_bases': (SITE,), 'done_on': (SITE, (0, 5), 9), 'bases_after': (SITE, (0, 5), (9, 12)),
+    'missed_by': (SITE, (3, 8), 20), 'are_kept': (SITE, (6, 11), 15), 'story_of': (SITE, (6, 8)),
+}
+
 # The parameters of a class, and its methods and properties; those of an operator have free names.
 CLASSES = {
     'limitclasses': {
@@ -73,6 +94,19 @@ class TestInterface(Case):
                 self.assertEqual(words_of(thing), words, name)
                 self.assertEqual(thing.__module__, 'whichfirst.' + module)
                 self.assertEqual(inspect.isgeneratorfunction(thing), name in GENERATORS)
+
+    def test_by_position_and_by_name_and_nothing_changes(self):
+        for module, functions in FUNCTIONS.items():
+            for name, words in functions.items():
+                call = getattr(importlib.import_module('whichfirst.' + module), name)
+                args = SAMPLES[name]
+                before = repr(args)
+                told = [call(*args), call(**dict(zip(words.split(', '), args))), call(*args)]
+                if name in GENERATORS:
+                    told = [list(rows) for rows in told]
+                self.same(told[1], told[0])
+                self.same(told[2], told[0])
+                self.assertEqual(repr(args), before)
 
     def test_classes(self):
         for module, classes in CLASSES.items():
