@@ -170,6 +170,58 @@ class TestFiles(Case):
                     self.assertTrue({name.name for name in node.names} <= used, path)
 
 
+IN_PLACE = ('__iand__', '__ior__', '__iadd__')
+
+
+class TestOperators(Case):
+    """What makes, compares, joins or reads an object changes none by another method."""
+
+    def test_no_changing_method_is_called(self):
+        seen = 0
+        for path in FOLDER.glob('*.py'):
+            for node in ast.walk(ast.parse(path.read_text(encoding='utf-8'))):
+                if isinstance(node, ast.ClassDef):
+                    methods = [method for method in node.body if isinstance(method, ast.FunctionDef)]
+                    changing = changing_in(methods)
+                    for method in methods:
+                        if is_still(method):
+                            seen += 1
+                            self.assertFalse(changes_itself(method) and method.name != '__init__', (path, method.name))
+                            self.assertFalse(calls_of(method) & changing, (path, method.name))
+        self.assertGreater(seen, 10)
+
+
+def is_still(method):
+    """Whether a method is a maker, an operator or a property that is read."""
+    if [item for item in method.decorator_list if isinstance(item, ast.Name) and item.id == 'property']:
+        return True
+    return method.name.startswith('__') and method.name not in IN_PLACE + ('__call__',)
+
+
+def changes_itself(method):
+    own = method.args.args[0].arg if method.args.args else None
+    return any(
+        isinstance(node, ast.Attribute) and isinstance(node.ctx, ast.Store) and getattr(node.value, 'id', None) == own
+        for node in ast.walk(method)
+    )
+
+
+def calls_of(method):
+    """The names of all methods that a method calls, of whatever object."""
+    calls = [node.func for node in ast.walk(method) if isinstance(node, ast.Call)]
+    return {call.attr for call in calls if isinstance(call, ast.Attribute)}
+
+
+def changing_in(methods):
+    """The names of the methods, but for makers, that change their object, themselves or by others."""
+    found = {method.name for method in methods if changes_itself(method) and method.name != '__init__'}
+    more = True
+    while more:
+        more = {method.name for method in methods if calls_of(method) & found} - found
+        found |= more
+    return found
+
+
 def bound_in(module):
     """The names that a module defines itself."""
     found = set()

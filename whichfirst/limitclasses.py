@@ -1,14 +1,10 @@
 """Limits as values that can be compared and joined."""
 
 from whichfirst.allruns import is_caps, lean_limit, never_later
-from whichfirst.kinds import JOIN_WORDS, is_above_zero, is_counts, is_limit, is_slack
-from whichfirst.limitparts import is_passed, limits_in, plain_limits, widened
+from whichfirst.kinds import is_above_zero, is_counts, is_limit, is_slack
+from whichfirst.limitparts import is_passed, plain_limits, widened
 from whichfirst.needs import need
-
-
-def shape_of(limit):
-    """A list by which limits are equal, without nesting: Python compares what is nested deep by calls."""
-    return [(word, len(rest) if word in JOIN_WORDS else rest) for word, rest in limits_in(limit)]
+from whichfirst.sameness import are_same
 
 
 class Limit:
@@ -18,12 +14,12 @@ class Limit:
         need(is_limit(limit), "limit")
         need(is_caps(caps), "caps")
         self._caps = caps
-        self._take(limit)
+        self._form = limit
+        self._plain = plain_limits(limit)
 
     def _take(self, limit):
-        """Gives it this form."""
+        """Gives it another form: for &= and |= alone."""
         self._form = limit
-        self._shape = shape_of(limit)
         self._plain = plain_limits(limit)
 
     @property
@@ -72,7 +68,7 @@ class Limit:
         return never_later(other._form, self._form, self._caps)
 
     def __eq__(self, other):
-        return isinstance(other, Limit) and self._shape == other._shape and self._caps == other._caps
+        return isinstance(other, Limit) and are_same(self._form, other._form) and self._caps == other._caps
 
     def __and__(self, other):
         need(self._is_with(other), "b")
