@@ -11,6 +11,9 @@ ODD = (
     ('days', '7'), ('weeks', 1), ('first', ()), ('first', [('days', 1)]), (None, None), (True, 1), (0, -1),
 )
 
+NO_NUMBER = (-1, True, False, None, '0', (), (0,), [0], -10 ** 59)
+NO_NAME = tuple(value for value in ODD if value is not None) + ('oils', 'o', ['oil'], ('oil',), ['pump'], ['lift'], 0, b'oil')
+
 # The site of the document's examples.
 SETUP = """
 >>> MACHINES = (('lift', ((8, 2),)), ('mill', ((2, 5), (6, 0))))

@@ -1,6 +1,7 @@
 """The interface: names, parameters, and in which file and class each thing is defined."""
 
 import ast
+import builtins
 import importlib
 import inspect
 import pathlib
@@ -40,9 +41,19 @@ FUNCTIONS = {
         'first_bases': 'site', 'done_on': 'site, bases, day', 'bases_after': 'site, bases, days', 'missed_by': 'site, days, upto',
         'are_kept': 'site, days, upto', 'story_of': 'site, days',
     },
+    'sitechanges': {
+        'with_stay': 'site, part, day, place', 'exchanged': 'site, part, other, day', 'with_task': 'site, task',
+        'without_task': 'site, name', 'with_limit': 'site, name, limit, slack', 'with_way': 'site, name, way',
+        'with_uses': 'site, machine, uses',
+    },
+    'planning': {'fewest_visits': 'site, upto', 'how_few': 'site, upto', 'lighter_without': 'site, upto'},
+    'apartness': {'apart_windows': 'site, upto'},
+    'exchanges': {
+        'first_late': 'site, bases', 'all_exchanges': 'site, bases, day', 'best_exchange': 'site, bases, day',
+    },
 }
 
-GENERATORS = ('windows_of',)
+GENERATORS = ('windows_of', 'all_exchanges')
 
 LIMIT = OIL[3]
 RUN = tuple((name, uses[:1]) for name, uses in SITE[0])
@@ -62,6 +73,11 @@ SAMPLES = {
     'late_day': (SITE, 'oil', 2), 'early_day': (SITE, 'oil', 3), 'window_of': (SITE, 'oil', 4), 'windows_of': (SITE, 'oil', 14),
     'first_bases': (SITE,), 'done_on': (SITE, (0, 5), 9), 'bases_after': (SITE, (0, 5), (9, 12)),
     'missed_by': (SITE, (3, 8), 20), 'are_kept': (SITE, (6, 11), 15), 'story_of': (SITE, (6, 8)),
+    'with_stay': (SITE, 'saw', 2, None), 'exchanged': (SITE, 'pump', 'saw', 2), 'with_task': (SITE, ('a',) + OIL[1:]),
+    'without_task': (SITE, 'oil'), 'with_limit': (SITE, 'oil', ('days', 9), (0, 0, 1)), 'with_way': (SITE, 'oil', 'fresh'),
+    'with_uses': (SITE, 'mill', ((1, 1),)), 'fewest_visits': (SITE, 20), 'how_few': (SITE, 20), 'lighter_without': (SITE, 17),
+    'apart_windows': (SITE[:2] + ((OIL,),), 20), 'first_late': (SITE, (3, 0)), 'all_exchanges': (SITE, (3, 0), 0),
+    'best_exchange': (SITE, (3, 0), 9),
 }
 
 # The parameters of a class, and its methods and properties; those of an operator have free names.
@@ -77,6 +93,18 @@ CLASSES = {
         'Due': ('site, name, base', {
             'name': None, 'base': None, 'early_on': None, 'due_on': None, 'late_on': None, '__call__': 'self, day',
             'nearest': 'site, bases', 'word_for': 'left', '__lt__': '', '__le__': '', '__eq__': '',
+        }),
+    },
+    'sheets': {
+        'Sheet': ('site, *, today=0', {
+            'today': None, 'bases': None, 'dues': None, 'overdue': None, 'doing': 'self, names', '__iadd__': '',
+            '__contains__': '', '__iter__': '', '__len__': '', '__eq__': '',
+        }),
+    },
+    'planners': {
+        'Planner': ('site, upto', {
+            'site': None, 'upto': None, 'visits': None, 'reasons': None, 'last': None, 'longer': 'self', 'shorter': 'self',
+            'copy': 'self', '__len__': '', '__getitem__': '', '__iter__': '', '__contains__': '', '__eq__': '',
         }),
     },
 }
@@ -160,6 +188,22 @@ class TestFiles(Case):
                     behind.add(other)
                     new.append(other)
             self.assertNotIn(name, behind)
+
+    def test_names_mean_one_thing(self):
+        """No parameter or variable has the name of a builtin, or of an import or class of its file."""
+        for path in FOLDER.glob('*.py'):
+            tree = ast.parse(path.read_text(encoding='utf-8'))
+            taken = {name for name in vars(builtins) if name.islower()}
+            for node in tree.body:
+                if isinstance(node, ast.ImportFrom):
+                    taken |= {name.name for name in node.names}
+                elif isinstance(node, ast.ClassDef):
+                    taken.add(node.name)
+            for node in ast.walk(tree):
+                if isinstance(node, ast.Name) and isinstance(node.ctx, ast.Store):
+                    self.assertNotIn(node.id, taken, path)
+                elif isinstance(node, ast.arg):
+                    self.assertNotIn(node.arg, taken, path)
 
     def test_every_import_is_used(self):
         for path in FOLDER.glob('*.py'):

@@ -35,6 +35,15 @@ def lies_in(day, window):
     return window is not None and window[0] <= day and (window[1] is None or day <= window[1])
 
 
+def least_late(site, bases):
+    """The least late day of all tasks with these bases, and the list of those that have it; None and [] without one."""
+    rows = [(task[0], days_for(site, task, base)[2]) for task, base in zip(site[2], bases)]
+    least = None
+    for _, late in rows:
+        least = sooner(least, late)
+    return least, [name for name, late in rows if late is not None and late == least]
+
+
 def need_task(site, name, base):
     """Raises the errors of what is asked of a task and a base."""
     need(has_row(site[2], name), "name")

@@ -47,20 +47,32 @@ def bases_behind(site, bases, day):
     return tuple([base_behind(site, task, base, day) for task, base in zip(site[2], bases)])
 
 
+def bases_done(site, bases, day, names):
+    """The bases of all tasks behind a visit at which these alone are done."""
+    rows = list(zip(site[2], bases, bases_behind(site, bases, day)))
+    return tuple([behind if task[0] in names else base for task, base, behind in rows])
+
+
+def able_on(site, bases, day):
+    """The set of the tasks that can be done on a day with these bases."""
+    rows = [(task[0], doings_of(site, task, base, day)) for task, base in zip(site[2], bases)]
+    return tuple([name for name, doings in rows if len(doings) > 0])
+
+
 def missed_ahead(site, bases, day):
     """The list of the pairs (task, late day) of the tasks whose late day, for these bases, is ahead of a day."""
     late_days = [(task[0], days_for(site, task, base)[2]) for task, base in zip(site[2], bases)]
     return [(name, late) for name, late in late_days if late is not None and late < day]
 
 
-def missed_in(site, days, upto):
-    """The set of the pairs (task, late day) of all that is missed by these visits up to a day."""
-    bases = first_bases(site)
+def missed_from(site, bases, days, upto):
+    """The set of the pairs (task, late day) of all that is missed, from these bases on, by visits up to a day."""
+    behind = bases
     missed = []
     for day in days:
-        missed.extend(missed_ahead(site, bases, day))
-        bases = bases_behind(site, bases, day)
-    missed.extend(missed_ahead(site, bases, upto))
+        missed.extend(missed_ahead(site, behind, day))
+        behind = bases_behind(site, behind, day)
+    missed.extend(missed_ahead(site, behind, upto))
     return tuple(sorted(set(missed)))
 
 
@@ -73,8 +85,7 @@ def done_on(site, bases, day):
     """The set of the tasks that are done at a visit on this day with these bases."""
     need(are_bases(site, bases), "bases")
     need(is_number(day), "day")
-    rows = [(task[0], doings_of(site, task, base, day)) for task, base in zip(site[2], bases)]
-    return tuple([name for name, doings in rows if len(doings) > 0])
+    return able_on(site, bases, day)
 
 
 def bases_after(site, bases, days):
@@ -91,14 +102,14 @@ def missed_by(site, days, upto):
     """The set of the pairs (task, late day) of all that is missed by visits on these days up to a day."""
     need_days(days)
     need(is_number(upto), "upto")
-    return missed_in(site, days, upto)
+    return missed_from(site, first_bases(site), days, upto)
 
 
 def are_kept(site, days, upto):
     """Whether visits on these days keep the site up to a day."""
     need_days(days)
     need(is_number(upto), "upto")
-    return all([day <= upto for day in days]) and len(missed_in(site, days, upto)) == 0
+    return all([day <= upto for day in days]) and len(missed_from(site, first_bases(site), days, upto)) == 0
 
 
 def story_of(site, days):
