@@ -51,12 +51,20 @@ FUNCTIONS = {
     'exchanges': {
         'first_late': 'site, bases', 'all_exchanges': 'site, bases, day', 'best_exchange': 'site, bases, day',
     },
+    'sitetexts': {'limit_text': 'limit', 'task_text': 'task', 'site_text': 'site'},
+    'eventtexts': {'event_line': 'event', 'log_lines': 'log'},
+    'replaying': {'is_log': 'thing', 'replayed': 'log'},
+    'surewindows': {
+        'run_window': 'site, run, name, k', 'sure_window': 'site, bounds, name, k', 'apart_runs': 'site, bounds, name, k',
+    },
+    'surevisits': {'sure_visits': 'site, bounds, upto'},
 }
 
 GENERATORS = ('windows_of', 'all_exchanges')
 
 LIMIT = OIL[3]
 RUN = tuple((name, uses[:1]) for name, uses in SITE[0])
+SITE_RUN = tuple((name, tuple((hours + 1, cycles) for hours, cycles in uses)) for name, uses in RUN)
 
 # Arguments of each function, in order; lists where any value may stand.
 SAMPLES = {
@@ -77,7 +85,11 @@ SAMPLES = {
     'without_task': (SITE, 'oil'), 'with_limit': (SITE, 'oil', ('days', 9), (0, 0, 1)), 'with_way': (SITE, 'oil', 'fresh'),
     'with_uses': (SITE, 'mill', ((1, 1),)), 'fewest_visits': (SITE, 20), 'how_few': (SITE, 20), 'lighter_without': (SITE, 17),
     'apart_windows': (SITE[:2] + ((OIL,),), 20), 'first_late': (SITE, (3, 0)), 'all_exchanges': (SITE, (3, 0), 0),
-    'best_exchange': (SITE, (3, 0), 9),
+    'best_exchange': (SITE, (3, 0), 9), 'limit_text': (LIMIT,), 'task_text': (OIL,), 'site_text': (SITE,),
+    'event_line': (('move', 'saw', None),), 'log_lines': ((('book', SITE), ('drop', 'oil')),),
+    'is_log': ([('book', [SITE])],), 'replayed': ((('book', SITE), ('drop', 'oil')),), 'run_window': (SITE, RUN, 'oil', 1),
+    'sure_window': (SITE, (RUN, SITE_RUN), 'oil', 1), 'apart_runs': (SITE, (RUN, RUN), 'oil', 2),
+    'sure_visits': (SITE, (RUN, SITE_RUN), 20),
 }
 
 # The parameters of a class, and its methods and properties; those of an operator have free names.
@@ -107,6 +119,17 @@ CLASSES = {
             'copy': 'self', '__len__': '', '__getitem__': '', '__iter__': '', '__contains__': '', '__eq__': '',
         }),
     },
+    'books': {
+        'Book': ('site', {
+            'MOST': '', 'TASKS': '', 'site_now': None, 'day_now': None, 'bases_now': None, 'passed': 'self, uses',
+            'visit': 'self, *names', 'renew': 'self, *names', 'move': 'self, part, place', 'expect': 'self, machine, use',
+            'add_task': 'self, task', 'drop_task': 'self, name', 'set_limit': 'self, name, limit, slack', 'go': 'self, event',
+            '__call__': 'self, event', 'tried': 'self, *events', 'undo': 'self', 'do_all': 'self, *events, keep=False',
+            'tally': 'self', 'table': 'self', 'barred': 'self, event', 'can_do': 'self', 'missed_now': 'self',
+            'days_of': 'self, name', 'visits_now': 'self, upto', 'keeps_now': 'self, days, upto', 'exchange_now': 'self',
+            'log': 'self', '__getitem__': '', '__contains__': '', '__iter__': '', '__len__': '', '__eq__': '', '__str__': '',
+        }),
+    },
 }
 
 
@@ -132,6 +155,8 @@ class TestInterface(Case):
                 told = [call(*args), call(**dict(zip(words.split(', '), args))), call(*args)]
                 if name in GENERATORS:
                     told = [list(rows) for rows in told]
+                elif name == 'replayed':
+                    told = [book.log() for book in told]
                 self.same(told[1], told[0])
                 self.same(told[2], told[0])
                 self.assertEqual(repr(args), before)

@@ -41,8 +41,13 @@ def are_numbers(thing, many):
 
 
 def do_rise(rows):
-    """Whether each element of a list, all of one kind, is greater than the one before."""
+    """Whether each element of a list or tuple, all of one kind, is greater than the one before."""
     return all([before < behind for before, behind in zip(rows, rows[1:])])
+
+
+def are_days(thing):
+    """Whether it is a set of days: a tuple of numbers, ascending."""
+    return isinstance(thing, tuple) and all([is_number(day) for day in thing]) and do_rise(thing)
 
 
 def is_counts(thing):
