@@ -48,6 +48,10 @@ FUNCTIONS = {
     },
     'planning': {'fewest_visits': 'site, upto', 'how_few': 'site, upto', 'lighter_without': 'site, upto'},
     'apartness': {'apart_windows': 'site, upto'},
+    'visitchecker': {'lets_visits': 'site, upto, thing'},
+    'apartchecker': {'lets_apart': 'site, upto, thing'},
+    'freeing': {'can_do': 'site, bases, day', 'lets_free': 'site, upto, thing', 'cost_of': 'site, upto, free, prices'},
+    'freecosts': {'least_cost': 'site, upto, prices', 'best_free': 'site, upto, prices', 'early_saves': 'site, upto'},
     'exchanges': {
         'first_late': 'site, bases', 'all_exchanges': 'site, bases, day', 'best_exchange': 'site, bases, day',
     },
@@ -58,6 +62,8 @@ FUNCTIONS = {
         'run_window': 'site, run, name, k', 'sure_window': 'site, bounds, name, k', 'apart_runs': 'site, bounds, name, k',
     },
     'surevisits': {'sure_visits': 'site, bounds, upto'},
+    'surepapers': {'sure_paper': 'site, bounds, upto'},
+    'surechecker': {'lets_sure': 'site, bounds, upto, thing'},
 }
 
 GENERATORS = ('windows_of', 'all_exchanges')
@@ -89,7 +95,12 @@ SAMPLES = {
     'event_line': (('move', 'saw', None),), 'log_lines': ((('book', SITE), ('drop', 'oil')),),
     'is_log': ([('book', [SITE])],), 'replayed': ((('book', SITE), ('drop', 'oil')),), 'run_window': (SITE, RUN, 'oil', 1),
     'sure_window': (SITE, (RUN, SITE_RUN), 'oil', 1), 'apart_runs': (SITE, (RUN, RUN), 'oil', 2),
-    'sure_visits': (SITE, (RUN, SITE_RUN), 20),
+    'sure_visits': (SITE, (RUN, SITE_RUN), 20), 'sure_paper': (SITE, (RUN, SITE_RUN), 20),
+    'lets_sure': (SITE, (RUN, SITE_RUN), 3, ('visits', (), ())),
+    'lets_visits': (SITE, 7, ('visits', ((6, 'oil'),))), 'lets_apart': (SITE, 20, (('oil', 0), ('oil', 2))),
+    'can_do': (SITE, (0, 0), 3), 'lets_free': (SITE, 9, ((3, ('oil',)), (6, ('clean',)))),
+    'cost_of': (SITE, 9, ((3, ('oil',)), (6, ('clean',))), (5, (3, 2))), 'least_cost': (SITE, 20, (5, (3, 2))),
+    'best_free': (SITE, 20, (5, (3, 2))), 'early_saves': (SITE, 20),
 }
 
 # The parameters of a class, and its methods and properties; those of an operator have free names.

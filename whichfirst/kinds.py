@@ -35,6 +35,11 @@ def is_tuple_of(thing, many):
     return isinstance(thing, tuple) and len(thing) == many
 
 
+def are_pairs(thing):
+    """Whether it is a tuple of pairs, whatever these hold."""
+    return isinstance(thing, tuple) and all([is_tuple_of(row, 2) for row in thing])
+
+
 def are_numbers(thing, many):
     """Whether it is a tuple of so many numbers."""
     return is_tuple_of(thing, many) and all([is_number(number) for number in thing])

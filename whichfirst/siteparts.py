@@ -22,6 +22,11 @@ def row_in(rows, name):
     return rows[index_in(rows, name)]
 
 
+def is_kept(site, name):
+    """Whether any value is the name of a kept task of a site."""
+    return has_row(site[2], name) and row_in(site[2], name)[2] == "kept"
+
+
 def place_in(stays, day):
     """The place of the last stay that begins on this day or before."""
     places = [place for start, place in stays if start <= day]

@@ -4,7 +4,7 @@ from whichfirst.boundchecker import has_names, is_bounds
 from whichfirst.duedays import days_for, window_in
 from whichfirst.kinds import is_machines, is_number
 from whichfirst.needs import need
-from whichfirst.siteparts import has_row, row_in
+from whichfirst.siteparts import is_kept, row_in
 
 
 def in_run(site, run):
@@ -32,11 +32,6 @@ def common_days(low, high):
         return None
     # No window begins later than that of low, and none ends ahead of that of high.
     return (low[0], high[1])
-
-
-def is_kept(site, name):
-    """Whether any value is the name of a kept task."""
-    return has_row(site[2], name) and row_in(site[2], name)[2] == "kept"
 
 
 def both_windows(site, bounds, name, k):
