@@ -30,7 +30,7 @@ class Case(unittest.TestCase):
         """Tuples, lists and what is in them have their kinds in what repr writes."""
         self.assertEqual(repr(got), repr(want))
 
-    def raises(self, kind, fields, call, *args, **named):
+    def raises(self, kind, fields, call, /, *args, **named):
         """The call raises an error of this very class with these very fields."""
         with self.assertRaises(WhichError) as caught:
             call(*args, **named)

@@ -8,6 +8,7 @@ import pathlib
 
 from helpers import Case
 from sites import OIL, SITE
+from whichfirst.siteclasses import Renamed, Shelved, Site
 
 FOLDER = pathlib.Path(__file__).resolve().parent.parent / 'whichfirst'
 
@@ -64,6 +65,11 @@ FUNCTIONS = {
     'surevisits': {'sure_visits': 'site, bounds, upto'},
     'surepapers': {'sure_paper': 'site, bounds, upto'},
     'surechecker': {'lets_sure': 'site, bounds, upto, thing'},
+    'visitpapers': {'visit_paper': 'site, upto'},
+    'worthpapers': {'worth_paper': 'site, upto, prices'},
+    'worthchecker': {'lets_worths': 'site, upto, prices, thing'},
+    'sitereadings': {'limit_read': 'text, *, line=0, field=0', 'task_read': 'text, *, line=0, field=0', 'site_read': 'text'},
+    'eventreadings': {'read_event': 'text', 'read_log': 'lines'},
 }
 
 GENERATORS = ('windows_of', 'all_exchanges')
@@ -100,7 +106,10 @@ SAMPLES = {
     'lets_visits': (SITE, 7, ('visits', ((6, 'oil'),))), 'lets_apart': (SITE, 20, (('oil', 0), ('oil', 2))),
     'can_do': (SITE, (0, 0), 3), 'lets_free': (SITE, 9, ((3, ('oil',)), (6, ('clean',)))),
     'cost_of': (SITE, 9, ((3, ('oil',)), (6, ('clean',))), (5, (3, 2))), 'least_cost': (SITE, 20, (5, (3, 2))),
-    'best_free': (SITE, 20, (5, (3, 2))), 'early_saves': (SITE, 20),
+    'best_free': (SITE, 20, (5, (3, 2))), 'early_saves': (SITE, 20), 'visit_paper': (SITE, 20),
+    'worth_paper': (SITE, 12, (5, (3, 2))), 'lets_worths': (SITE, 6, (5, (3, 2)), ((), ())), 'limit_read': ('first(days:1)',),
+    'task_read': ('task oil pump kept days:7 0:0:1',), 'site_read': ('machine b 8:2',), 'read_event': ('drop oil',),
+    'read_log': (['book 1', 'machine b 8:2', 'pass 1:1'],),
 }
 
 # The parameters of a class, and its methods and properties; those of an operator have free names.
@@ -141,6 +150,18 @@ CLASSES = {
             'log': 'self', '__getitem__': '', '__contains__': '', '__iter__': '', '__len__': '', '__eq__': '', '__str__': '',
         }),
     },
+    'siteclasses': {
+        'Site': ('machines=(), parts=(), tasks=()', {
+            'machines': None, 'parts': None, 'tasks': None, 'form': None, 'moved': 'self, part, day, place',
+            'swapped': 'self, part, other, day', 'limited': 'self, name, limit, slack', 'turned': 'self, name, way',
+            'used': 'self, machine, uses', 'stands': 'self, day', 'parsed': 'text', 'plain': 'use, limits', '__getitem__': '',
+            '__contains__': '', '__len__': '', '__iter__': '', '__eq__': '', '__str__': '', '__call__': 'self, part, day',
+            '__add__': '', '__sub__': '',
+        }),
+        'Shelved': ('site, *names', {'source': None}),
+        'Renamed': ('site, **names', {'source': None}),
+    },
+    'desk': {'Desk': ('', {'say': 'self, row', 'tally': 'self'})},
 }
 
 
@@ -164,6 +185,7 @@ class TestInterface(Case):
                 args = SAMPLES[name]
                 before = repr(args)
                 told = [call(*args), call(**dict(zip(words.split(', '), args))), call(*args)]
+                self.assertFalse(isinstance(told[0], list) and told[0] is told[2])
                 if name in GENERATORS:
                     told = [list(rows) for rows in told]
                 elif name == 'replayed':
@@ -184,6 +206,21 @@ class TestInterface(Case):
                         self.assertIsInstance(vars(thing)[member], property)
                     elif told:
                         self.assertEqual(words_of(getattr(thing, member)), told, member)
+                    self.assertEqual(inspect.isgeneratorfunction(getattr(thing, member)), member == 'stands')
+
+    def test_static_and_class_methods(self):
+        kinds = {staticmethod: set(), classmethod: set()}
+        for module, classes in CLASSES.items():
+            for name in classes:
+                thing = getattr(importlib.import_module('whichfirst.' + module), name)
+                for member, value in vars(thing).items():
+                    if type(value) in kinds:
+                        kinds[type(value)].add(f'{name}.{member}')
+        self.assertEqual(kinds[staticmethod], {'Due.word_for', 'Site.plain'})
+        self.assertEqual(kinds[classmethod], {'Due.nearest', 'Limit.hours', 'Limit.cycles', 'Limit.days', 'Site.parsed'})
+
+    def test_derived_classes(self):
+        self.assertEqual((Shelved.__bases__, Renamed.__bases__, Site.__bases__), ((Site,), (Site,), (object,)))
 
 
 class TestFiles(Case):

@@ -8,23 +8,30 @@ from whichfirst.needs import need
 from whichfirst.sitechanges import without_task
 
 
-def greedy_row(site, bases, before, upto):
+def greedy_way(site, bases, before, upto):
     """The visits behind the day before, up to a day, that go on from these bases, each on the least late day.
 
     Returns the list of the pairs (day, names), names the tasks that have this
-    late day, and the least late day behind all. NeverKept if none keep the site.
+    late day, the least late day behind all, and the list of those that have it.
+    If that day is below upto, these are missed whatever is done.
     """
     row = []
     last = before
     now = bases
     late, names = least_late(site, now)
-    while late is not None and late < upto:
-        if late <= last:
-            raise NeverKept(names[0], late)
+    while late is not None and last < late < upto:
         row.append((late, tuple(names)))
         last = late
         now = bases_behind(site, now, late)
         late, names = least_late(site, now)
+    return row, late, names
+
+
+def greedy_row(site, bases, before, upto):
+    """The visits of the greedy way and the least late day behind all; NeverKept if none keep the site."""
+    row, late, names = greedy_way(site, bases, before, upto)
+    if late is not None and late < upto:
+        raise NeverKept(names[0], late)
     return row, late
 
 
