@@ -186,13 +186,20 @@ class TestErrors(Case):
         self.same(lets_sure(SITE, BOUNDS, 17, GOOD), 3)
         self.wrong('reason', 2, GOOD, 16)
 
-    def test_reason_of_a_window_that_begins_ahead_of_the_visit_before(self):
-        # Windows of the last days 5 and 7, 10 and 14, both of them with a day at the visit before.
-        site = one(('days', 4), (0, 0, 1))[:2] + (tuple((name, 'one', 'kept', ('days', n), (0, 0, 2)) for name, n in (('a', 4), ('b', 5))),)
-        bounds = (site[0], site[0])
-        self.same(lets_sure(site, bounds, 7, ('visits', (6,), (('a', 0),))), 1)
-        self.wrong('reason', 1, ('visits', (6, 7), (('a', 0), ('b', 0))), 8, site, bounds)
-        self.wrong('reason', 0, ('visits', (6, 7), (('b', 0), ('b', 0))), 8, site, bounds)
+    def test_reason_of_a_window_that_begins_with_the_visit_before_or_ahead_of_it(self):
+        def site(*rows):
+            return one(('days', 1))[:2] + (tuple((name, 'one', 'kept', ('days', n), (0, 0, 2)) for name, n in rows),)
+        # The windows of a are 2 to 6 and 6 to 10, that of b is 3 to 7.
+        near = site(('a', 4), ('b', 5))
+        bounds = (near[0], near[0])
+        self.same(lets_sure(near, bounds, 7, ('visits', (6,), (('a', 0),))), 1)
+        self.wrong('reason', 1, ('visits', (6, 7), (('a', 0), ('b', 0))), 8, near, bounds)
+        self.wrong('reason', 0, ('visits', (6, 7), (('b', 0), ('b', 0))), 8, near, bounds)
+        # Here that of b is 6 to 10, and here 7 to 11.
+        far = site(('a', 4), ('b', 8))
+        for reason in (('a', 1), ('b', 0)):
+            self.wrong('reason', 1, ('visits', (6, 10), (('a', 0), reason)), 11, far, bounds)
+        self.same(lets_sure(site(('a', 4), ('b', 9)), bounds, 12, ('visits', (6, 11), (('a', 0), ('b', 0)))), 2)
 
     def test_reason_on_upto(self):
         # The late day of the fresh task is upto itself.
